@@ -77,30 +77,16 @@ func TestP10Any(t *testing.T) {
 
 // refused: what P9's first words and a missing item say of a path, by the document's words once more.
 func refused(l []api.Item, path string) api.Errno {
-	names := strings.Split(path, "/")
-	for _, n := range names {
-		if n == "" || n == "." || n == ".." || len(n) > 20 || strings.Contains(n, "\x00") {
-			return api.ErrArg
-		}
-	}
-	if len(names) > 6 {
+	if !isPath(path) {
 		return api.ErrArg
 	}
-	is := func(path string, dir bool) bool {
-		return slices.ContainsFunc(l, func(a api.Item) bool { return a.Path == path && a.Dir == dir })
+	if e := above(l, path); e != api.OK {
+		return e
 	}
-	e := api.OK
-	for i := 1; i < len(names); i++ {
-		if in := strings.Join(names[:i], "/"); is(in, false) {
-			return api.ErrKind
-		} else if !is(in, true) {
-			e = api.ErrNone
-		}
+	if where(l, path) < 0 {
+		return api.ErrNone
 	}
-	if e == api.OK && !is(path, false) && !is(path, true) {
-		e = api.ErrNone
-	}
-	return e
+	return api.OK
 }
 
 // TestP10Paths: texts that are nearly paths, and paths of which something is there.

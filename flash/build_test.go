@@ -178,7 +178,7 @@ func TestP13Build(t *testing.T) {
 		for pages := 4; pages <= 16; pages++ {
 			for _, bad := range []int{0, blocks - 4, r.Intn(blocks - 3)} {
 				c := chip.New(blocks, pages, r.Perm(blocks)[:bad])
-				most := (blocks - bad) * pages * chip.Size / 16
+				most := most(c)
 				for k, l := range heavy(r, most) {
 					if weight(l) > most || !isTree(l) {
 						t.Fatalf("case %d: no tree of weight %d", k, most)

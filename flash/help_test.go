@@ -90,19 +90,13 @@ func killed(c *chip.Chip) *chip.Chip {
 // isTree: the document's words of a tree once more, each for itself.
 func isTree(l []api.Item) bool {
 	for i, a := range l {
-		names := strings.Split(a.Path, "/")
-		for _, n := range names {
-			if len(n) < 1 || len(n) > 20 || strings.Contains(n, "\x00") || n == "." || n == ".." {
-				return false
-			}
-		}
-		if len(names) > 6 || a.Mode < 0 || a.Mode > 4095 || a.Time < 0 || a.Time > 2147483647 {
+		if !isPath(a.Path) || a.Mode < 0 || a.Mode > 4095 || a.Time < 0 || a.Time > 2147483647 {
 			return false
 		}
 		if len(a.Data) > 4000 || a.Dir && len(a.Data) > 0 {
 			return false
 		}
-		in := strings.Join(names[:len(names)-1], "/")
+		in := a.Path[:max(0, strings.LastIndex(a.Path, "/"))]
 		if in != "" && !slices.ContainsFunc(l, func(b api.Item) bool { return b.Dir && b.Path == in }) {
 			return false
 		}
@@ -162,3 +156,20 @@ func weight(l []api.Item) int {
 	}
 	return sum
 }
+
+// good: how many blocks are not bad.
+func good(c *chip.Chip) int {
+	many := 0
+	for block := range c.Blocks() {
+		if !c.Bad(block) {
+			many++
+		}
+	}
+	return many
+}
+
+// most: the greatest weight that has room on a chip.
+func most(c *chip.Chip) int { return good(c) * c.Pages() * chip.Size / 16 }
+
+// light: has a tree room on a chip on which nothing has failed?
+func light(c *chip.Chip, l []api.Item) bool { return good(c) >= 4 && weight(l) <= most(c) }

@@ -10,20 +10,20 @@ import (
 	"nand/chip"
 )
 
-// text: bytes of which no two pages are the same.
+// text: bytes of which no two pages are the same, and none is 0.
 func text(many int) string {
 	b := make([]byte, many)
 	for i := range b {
-		b[i] = byte(i*7 + i/textBytes + 1)
+		b[i] = byte((i*7+i/textBytes)%255 + 1)
 	}
 	return string(b)
 }
 
-// trimmed: without the bytes 0 that come back with a text.
-func trimmed(texts []string) []string {
+// texts: the texts of all records of a chip, without the bytes 0 that come back with them.
+func texts(c *chip.Chip) []string {
 	var l []string
-	for _, s := range texts {
-		l = append(l, strings.TrimRight(s, "\x00"))
+	for _, r := range Records(c) {
+		l = append(l, strings.TrimRight(r.Text, "\x00"))
 	}
 	return l
 }
@@ -31,7 +31,7 @@ func trimmed(texts []string) []string {
 // has: these are the records of a chip.
 func has(t *testing.T, c *chip.Chip, want ...string) {
 	t.Helper()
-	if got := trimmed(Records(c)); !slices.Equal(got, want) {
+	if got := texts(c); !slices.Equal(got, want) {
 		t.Errorf("Records = %q, want %q", got, want)
 	}
 }
@@ -75,7 +75,7 @@ func TestCutPage(t *testing.T) {
 }
 
 func TestRenew(t *testing.T) {
-	c := chip.New(4, 4, []int{1})
+	c := chip.New(8, 4, []int{1})
 	has(t, c)
 	for _, many := range []int{1, textBytes - 1, textBytes, textBytes + 1, 4 * textBytes, 4*textBytes + 1, 12 * textBytes} {
 		if e := Renew(c, text(many)); e != api.OK {
@@ -87,6 +87,32 @@ func TestRenew(t *testing.T) {
 		t.Errorf("Renew of too many bytes = %d", e)
 	}
 	has(t, c, text(12*textBytes))
+}
+
+// TestRenewOnce: no block is erased twice.
+func TestRenewOnce(t *testing.T) {
+	c := chip.New(6, 4, []int{0})
+	c.Die(5+6, 0)
+	if e := Renew(c, text(6*textBytes)); e != api.OK || c.Dead() {
+		t.Errorf("Renew = %d behind 5 blocks and 6 pages, dead: %v", e, c.Dead())
+	}
+}
+
+// TestRoom: a record takes at most half of the blocks that are not bad.
+func TestRoom(t *testing.T) {
+	for good := range 9 {
+		var bad []int
+		for block := good; block < 8; block++ {
+			bad = append(bad, block)
+		}
+		c := chip.New(8, 5, bad)
+		if got, want := room(c), 5*(good/2); got != want {
+			t.Errorf("room beside %d bad blocks is %d, want %d", len(bad), got, want)
+		}
+		if e := Renew(c, text(room(c)*textBytes+1)); e != api.ErrFull {
+			t.Errorf("Renew beside %d bad blocks = %d", len(bad), e)
+		}
+	}
 }
 
 // TestLeft: what is left in a bad block is older, though its block comes first.
@@ -106,8 +132,8 @@ func TestGoesOn(t *testing.T) {
 	want := text(9 * textBytes)
 	for at := range 9 {
 		for left := range chip.Size {
-			c := chip.New(5, 4, nil)
-			c.Fail(5+at, left)
+			c := chip.New(8, 4, nil)
+			c.Fail(8+at, left)
 			if e := Renew(c, want); e != api.OK {
 				t.Fatalf("fail at %d: Renew = %d", at, e)
 			}

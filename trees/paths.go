@@ -17,17 +17,22 @@ func isName(s string) bool {
 
 // isPath tells whether a text is a path.
 func isPath(s string) bool {
-	names := strings.SplitN(s, "/", api.MaxDeep+1)
-	if len(names) > api.MaxDeep {
+	if deep(s) > api.MaxDeep {
 		return false
 	}
-	for _, name := range names {
+	for name := range strings.SplitSeq(s, "/") {
 		if !isName(name) {
 			return false
 		}
 	}
 	return true
 }
+
+// deep is how many names a path has.
+func deep(path string) int { return strings.Count(path, "/") + 1 }
+
+// isIn tells whether a path is in the directory at another one, or in one that is in it.
+func isIn(path string, dir string) bool { return strings.HasPrefix(path, dir+"/") }
 
 // cutLast splits a path into what it is in (empty: the root) and its last name.
 func cutLast(path string) (string, string) {

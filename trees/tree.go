@@ -42,7 +42,7 @@ func New(items []api.Item) (Tree, api.Errno) {
 
 // isItem tells whether an item may be in a tree, as far as it alone can tell.
 func isItem(item api.Item) bool {
-	if item.Mode < 0 || item.Mode > api.MaxMode || item.Time < 0 || item.Time > api.MaxTime {
+	if !isMode(item.Mode) || !isTime(item.Time) {
 		return false
 	}
 	if len(item.Data) > api.MaxFile || item.Dir && item.Data != "" {
@@ -50,6 +50,12 @@ func isItem(item api.Item) bool {
 	}
 	return isPath(item.Path)
 }
+
+// isMode tells whether a number may be a mode.
+func isMode(n int) bool { return n >= 0 && n <= api.MaxMode }
+
+// isTime tells whether a number may be a time.
+func isTime(n int) bool { return n >= 0 && n <= api.MaxTime }
 
 // Items is the tree as a list, in its order.
 func (t Tree) Items() []api.Item {
@@ -78,12 +84,17 @@ func (t Tree) enter(path string) api.Errno {
 	return api.OK
 }
 
+// reach tells whether a text is a path at which something may be: what it is in is there.
+func (t Tree) reach(path string) api.Errno {
+	if !isPath(path) {
+		return api.ErrArg
+	}
+	return t.enter(path)
+}
+
 // find is what is at a path.
 func (t Tree) find(path string) (Node, api.Errno) {
-	if !isPath(path) {
-		return Node{}, api.ErrArg
-	}
-	if e := t.enter(path); e != api.OK {
+	if e := t.reach(path); e != api.OK {
 		return Node{}, e
 	}
 	n, there := t[path]
@@ -93,16 +104,22 @@ func (t Tree) find(path string) (Node, api.Errno) {
 	return n, api.OK
 }
 
+// file is the file at a path.
+func (t Tree) file(path string) (Node, api.Errno) {
+	n, e := t.find(path)
+	if e != api.OK {
+		return Node{}, e
+	}
+	if n.Dir {
+		return Node{}, api.ErrKind
+	}
+	return n, api.OK
+}
+
 // Read is the bytes of a file.
 func (t Tree) Read(path string) (string, api.Errno) {
-	n, e := t.find(path)
-	if e == api.OK && n.Dir {
-		e = api.ErrKind
-	}
-	if e != api.OK {
-		return "", e
-	}
-	return n.Data, api.OK
+	n, e := t.file(path)
+	return n.Data, e
 }
 
 // List is the names in a directory (of the empty path: in the root), rising.
