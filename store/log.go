@@ -1,26 +1,27 @@
 package store
 
 import (
-	"math"
-
 	"nand/api"
 	"nand/chip"
 )
 
 // Log lays records down one after the other, each newer than all ahead of it. The last one that is whole stays where it is till the next one is whole: whenever the power goes, the newest record that is found is one or the other.
+//
+// It goes from block to block, round and round. It passes by those that are bad, and those of the record that stays, which come to be erased in the next round; no others. So what stands in a block that is not bad is no older than two rounds, and the numbers that are taken in two rounds are few among all.
 type Log struct {
-	c     *chip.Chip
-	last  uint32 // the greatest number that a record has or had
-	kept  blocks // in which the record stands that must stay
-	clean blocks // that are erased, and can be programmed as they are
-	block int    // that was programmed last
-	page  int    // of this block, that can be programmed next; behind its last one: none
+	c      *chip.Chip
+	newest label      // of the record that must stay
+	kept   blocks     // in which it stands
+	taken  set[label] // labels that pages had when the chip was looked through; nil: it is to be
+	clean  blocks     // that are erased, and can be programmed as they are
+	block  int        // in which the newest record ends
+	page   int        // of this block, that can be programmed next; behind its last one: none
 }
 
 // Follow is a Log that goes on behind a record.
 func Follow(c *chip.Chip, r Record) *Log {
 	// It goes on in a block that it erases itself: a page that looks erased may have been begun when the power went.
-	return &Log{c: c, last: r.last, kept: r.in, block: r.end, page: c.Pages()}
+	return &Log{c: c, newest: r.label, kept: r.in, block: r.end, page: c.Pages()}
 }
 
 // Add lays a record (of at least one byte) down. With an error the one ahead is still the newest that is whole.
@@ -28,31 +29,44 @@ func (l *Log) Add(text string) api.Errno {
 	if e := may(l.c, text); e != api.OK {
 		return e
 	}
-	// With no number left, one was scribbled there, and no room is promised.
-	if l.last == math.MaxUint32 {
-		return api.ErrFull
-	}
-	// A number is taken even if the record does not become whole: its pages must not be taken for those of the next.
-	l.last++
-	in := blocks{}
-	left := split(l.last, text)
-	// Into what is left of a block a record goes as a whole only, so that it never takes one block more than it must.
-	if len(left) <= l.c.Pages()-l.page {
-		left = l.program(left, in)
-	}
-	for i := 0; i < l.c.Blocks() && len(left) > 0 && !l.c.Dead(); i++ {
-		if l.open() {
-			left = l.program(left, in)
-		}
-	}
-	if len(left) == 0 {
-		l.kept = in
+	from := l.block
+	next, in := l.next(), blocks{}
+	if l.lay(split(next, text), in) {
+		l.newest, l.kept = next, in
 		return api.OK
 	}
+	// The next one begins where this one did: a block that was not erased to its end must not be passed by.
+	l.taken, l.block, l.page = nil, from, l.c.Pages()
 	if l.c.Dead() {
 		return api.ErrDev
 	}
 	return api.ErrFull
+}
+
+// next is the label of the next record. No page has it: those of a record that did not become whole must not be taken for its own. But it is as close behind the newest as it can be, so that the numbers do not run away from what stays when no record becomes whole, again and again.
+func (l *Log) next() label {
+	if l.taken == nil {
+		l.taken = find(l.c).labels()
+	}
+	n := label{badBlocks(l.c), l.newest.number + 1}
+	for l.taken.has(n) {
+		n.number++
+	}
+	return n
+}
+
+// lay programs pages, and notes in which blocks; false, if not all of them.
+func (l *Log) lay(pages []string, in blocks) bool {
+	// Into what is left of a block a record goes as a whole only, so that it never takes one block more than it must.
+	if len(pages) <= l.c.Pages()-l.page {
+		pages = l.program(pages, in)
+	}
+	for i := 0; i < l.c.Blocks() && len(pages) > 0 && !l.c.Dead(); i++ {
+		if l.open() {
+			pages = l.program(pages, in)
+		}
+	}
+	return len(pages) == 0
 }
 
 // open goes on to the next block, round and round, so that all are used alike, and erases it; false, if it cannot be erased, or must stay.
@@ -77,7 +91,7 @@ func (l *Log) program(pages []string, in blocks) []string {
 			l.page = l.c.Pages()
 			break
 		}
-		in[l.block] = struct{}{}
+		in.add(l.block)
 		l.page++
 		pages = pages[1:]
 	}

@@ -1,7 +1,6 @@
 package store
 
 import (
-	"math"
 	"slices"
 	"strconv"
 	"strings"
@@ -239,35 +238,10 @@ func TestAddWorn(t *testing.T) {
 	}
 }
 
-// TestAddNumbers: a record takes a number that no page has or had, also if one before it did not become whole; behind the last number there is none, and nothing is done.
-func TestAddNumbers(t *testing.T) {
-	c := chip.New(4, 4, nil)
-	l := begun(t, c, "first")
-	c.Die(3, 0) // two of its pages are there
-	l.Add(text(4 * textBytes))
-	c.Power()
-	if last := find(c).last; last != 2 {
-		t.Fatalf("the last number is %d", last)
-	}
-	for _, l := range []*Log{l, Follow(c, Records(c)[0])} {
-		d := c.Copy()
-		l.c = d
-		adds(t, l, "next")
-		if last := find(d).last; last != 3 {
-			t.Errorf("the last number is %d", last)
-		}
-	}
-	c.Scribble(2, 0, split(math.MaxUint32, text(2*textBytes))[0])
-	was := images(c)
-	if e := Follow(c, Records(c)[0]).Add("more"); e != api.ErrFull || len(changed(was, images(c))) > 0 {
-		t.Errorf("Add without a number = %d", e)
-	}
-}
-
 // TestAddBesideScribbled: a record that stays in every block leaves no room, and is not harmed.
 func TestAddBesideScribbled(t *testing.T) {
 	c := chip.New(4, 4, nil)
-	for i, s := range split(1, text(4*textBytes)) {
+	for i, s := range split(label{0, 1}, text(4*textBytes)) {
 		c.Scribble(i, 0, s)
 	}
 	was := images(c)

@@ -4,16 +4,16 @@ import (
 	"nand/chip"
 )
 
-// A page is the number of its record (4 bytes), which of the record's pages it is and how many there are (2 bytes each), bytes of the record (with bytes 0 behind the last), and a sum of all these (4). Numbers have their higher bytes first.
+// A page is the label of its record (how many blocks were bad: 1 byte; the number: 4), which of the record's pages it is and how many there are (2 bytes each), bytes of the record (with bytes 0 behind the last), and a sum of all these (4). Numbers have their higher bytes first.
 const (
-	headBytes = 8
+	headBytes = 9
 	sumBytes  = 4
 	textBytes = chip.Size - headBytes - sumBytes
 )
 
 // page is what a page says.
 type page struct {
-	record uint32
+	record label
 	at     int
 	of     int
 	text   string
@@ -22,7 +22,8 @@ type page struct {
 // bytes is the page as it is programmed.
 func (p page) bytes() string {
 	b := make([]byte, 0, chip.Size)
-	b = addNumber(b, 4, p.record)
+	b = addNumber(b, 1, uint32(p.record.bad))
+	b = addNumber(b, 4, p.record.number)
 	b = addNumber(b, 2, uint32(p.at))
 	b = addNumber(b, 2, uint32(p.of))
 	b = append(b, p.text...)
@@ -36,7 +37,8 @@ func readPage(s string) (page, bool) {
 	if len(s) != chip.Size || number(s[end:]) != sum(s[:end]) {
 		return page{}, false
 	}
-	p := page{number(s[:4]), int(number(s[4:6])), int(number(s[6:8])), s[headBytes:end]}
+	record := label{int(s[0]), number(s[1:5])}
+	p := page{record, int(number(s[5:7])), int(number(s[7:9])), s[headBytes:end]}
 	return p, p.at < p.of
 }
 

@@ -2,6 +2,7 @@
 package store
 
 import (
+	"maps"
 	"slices"
 	"strings"
 
@@ -9,14 +10,20 @@ import (
 	"nand/chip"
 )
 
-// blocks are numbers of blocks.
-type blocks map[int]struct{}
+// set is a set of things.
+type set[T comparable] map[T]struct{}
 
-// has tells whether a block is one of them.
-func (b blocks) has(block int) bool {
-	_, there := b[block]
+// has tells whether something is in it.
+func (s set[T]) has(x T) bool {
+	_, there := s[x]
 	return there
 }
+
+// add puts something in.
+func (s set[T]) add(x T) { s[x] = struct{}{} }
+
+// blocks are numbers of blocks.
+type blocks = set[int]
 
 // Renew erases a chip and lays a record (of at least one byte) down there. It is the newest then: in blocks that are bad older ones may be left, for good.
 func Renew(c *chip.Chip, text string) api.Errno {
@@ -25,7 +32,6 @@ func Renew(c *chip.Chip, text string) api.Errno {
 		return e
 	}
 	l := Log{c: c, clean: erase(c), block: c.Blocks() - 1, page: c.Pages()}
-	l.last = find(c).last
 	return l.Add(text)
 }
 
@@ -44,29 +50,21 @@ func may(c *chip.Chip, text string) api.Errno {
 func pagesOf(text string) int { return (len(text) + textBytes - 1) / textBytes }
 
 // room is how many pages a record may take: those of half of the blocks that are not bad. So, beside any record that stays till the next one is whole, there are enough blocks for this one, whichever of the two is greater.
-func room(c *chip.Chip) int {
-	good := 0
-	for block := range c.Blocks() {
-		if !c.Bad(block) {
-			good++
-		}
-	}
-	return good / 2 * c.Pages()
-}
+func room(c *chip.Chip) int { return (c.Blocks() - badBlocks(c)) / 2 * c.Pages() }
 
 // erase erases all blocks that it can, and tells which.
 func erase(c *chip.Chip) blocks {
 	clean := blocks{}
 	for block := range c.Blocks() {
 		if c.Erase(block) {
-			clean[block] = struct{}{}
+			clean.add(block)
 		}
 	}
 	return clean
 }
 
 // split is a record as pages, as they are programmed.
-func split(record uint32, text string) []string {
+func split(record label, text string) []string {
 	pages := make([]string, pagesOf(text))
 	for at := range pages {
 		part := text[at*textBytes : min((at+1)*textBytes, len(text))]
@@ -77,7 +75,7 @@ func split(record uint32, text string) []string {
 
 // place is where a page stands among all records.
 type place struct {
-	record uint32
+	record label
 	at     int
 }
 
@@ -87,15 +85,12 @@ type foundPage struct {
 	block int
 }
 
-// found is what is found on a chip: the pages that say something, and the greatest number of a record among them.
-type found struct {
-	pages map[place]foundPage
-	last  uint32
-}
+// found is what is found on a chip: the pages that say something.
+type found map[place]foundPage
 
 // find looks through all blocks, the bad ones too: what was laid down ahead of their going bad still stands there.
 func find(c *chip.Chip) found {
-	f := found{pages: map[place]foundPage{}}
+	f := found{}
 	for block := range c.Blocks() {
 		for i := range c.Pages() {
 			s, _ := c.Read(block, i)
@@ -108,34 +103,42 @@ func find(c *chip.Chip) found {
 }
 
 // add takes a page in. Of two at one place (one of them was scribbled) the first stays.
-func (f *found) add(p foundPage) {
+func (f found) add(p foundPage) {
 	at := place{p.record, p.at}
-	if _, twice := f.pages[at]; !twice {
-		f.pages[at] = p
+	if _, twice := f[at]; !twice {
+		f[at] = p
 	}
-	f.last = max(f.last, p.record)
+}
+
+// labels are those of all pages.
+func (f found) labels() set[label] {
+	l := set[label]{}
+	for at := range f {
+		l.add(at.record)
+	}
+	return l
 }
 
 // Record is a record that was found.
 type Record struct {
-	Text string // with bytes 0 up to the end of its last page
-	in   blocks // where it stands
-	end  int    // the block where its last page stands
-	last uint32 // the greatest number that was found with it
+	Text  string // with bytes 0 up to the end of its last page
+	label label
+	in    blocks // where it stands
+	end   int    // the block where its last page stands
 }
 
 // record puts a record together; false, if it is not there to its last page.
-func (f *found) record(number uint32) (Record, bool) {
-	r := Record{in: blocks{}, last: f.last}
+func (f found) record(l label) (Record, bool) {
+	r := Record{label: l, in: blocks{}}
 	var text strings.Builder
-	of := f.pages[place{number, 0}].of
+	of := f[place{l, 0}].of
 	for at := range of {
-		p, there := f.pages[place{number, at}]
+		p, there := f[place{l, at}]
 		if !there || p.of != of {
 			return Record{}, false
 		}
 		text.WriteString(p.text)
-		r.in[p.block] = struct{}{}
+		r.in.add(p.block)
 		r.end = p.block
 	}
 	r.Text = text.String()
@@ -145,19 +148,15 @@ func (f *found) record(number uint32) (Record, bool) {
 // Records are all records that are there to their last page, the newest first.
 func Records(c *chip.Chip) []Record {
 	f := find(c)
-	var numbers []uint32
-	for at := range f.pages {
-		if at.at == 0 {
-			numbers = append(numbers, at.record)
+	whole := map[label]Record{}
+	for l := range f.labels() {
+		if r, ok := f.record(l); ok {
+			whole[l] = r
 		}
 	}
-	slices.Sort(numbers)
-	slices.Reverse(numbers)
 	var records []Record
-	for _, n := range numbers {
-		if r, whole := f.record(n); whole {
-			records = append(records, r)
-		}
+	for _, l := range slices.Backward(inTurn(slices.Collect(maps.Keys(whole)))) {
+		records = append(records, whole[l])
 	}
 	return records
 }

@@ -37,7 +37,7 @@ func has(t *testing.T, c *chip.Chip, want ...string) {
 }
 
 func TestPage(t *testing.T) {
-	for _, p := range []page{{0, 0, 1, text(textBytes)}, {math.MaxUint32, 511, 512, text(textBytes)}, {258, 256, 65535, strings.Repeat("\xff", textBytes)}} {
+	for _, p := range []page{{label{0, 0}, 0, 1, text(textBytes)}, {label{255, math.MaxUint32}, 511, 512, text(textBytes)}, {label{3, 258}, 256, 65535, strings.Repeat("\xff", textBytes)}} {
 		s := p.bytes()
 		if back, ok := readPage(s); len(s) != chip.Size || !ok || back != p {
 			t.Errorf("%v comes back as %v, %v", p, back, ok)
@@ -50,7 +50,7 @@ func TestPage(t *testing.T) {
 			}
 		}
 	}
-	for _, p := range []page{{1, 0, 0, ""}, {1, 1, 1, ""}, {1, 7, 3, ""}} {
+	for _, p := range []page{{label{0, 1}, 0, 0, ""}, {label{0, 1}, 1, 1, ""}, {label{0, 1}, 7, 3, ""}} {
 		if back, ok := readPage(p.bytes()); ok {
 			t.Errorf("%v is a page", back)
 		}
@@ -65,7 +65,7 @@ func TestPage(t *testing.T) {
 // TestCutPage: a page that was not programmed to its end says nothing, even where only a byte is missing that would have been anything.
 func TestCutPage(t *testing.T) {
 	for n := range uint32(2000) {
-		s := page{n, 0, 1, text(int(n % textBytes))}.bytes()
+		s := page{label{int(n % 33), n}, 0, 1, text(int(n % textBytes))}.bytes()
 		for cut := chip.Size - 5; cut < chip.Size; cut++ {
 			if back, ok := readPage(s[:cut] + strings.Repeat("\xff", chip.Size-cut)); ok {
 				t.Fatalf("%d bytes of page %d say %v", cut, n, back)
@@ -144,10 +144,10 @@ func TestGoesOn(t *testing.T) {
 
 // TestTorn: a record of which a page is missing is none.
 func TestTorn(t *testing.T) {
-	whole := split(7, text(3*textBytes))
+	whole := split(label{0, 7}, text(3*textBytes))
 	for miss := range whole {
 		c := chip.New(4, 4, nil)
-		c.Program(3, 0, split(3, "old")[0])
+		c.Program(3, 0, split(label{0, 3}, "old")[0])
 		for at, s := range whole {
 			if at == miss {
 				s = s[:chip.Size-1]
@@ -155,9 +155,6 @@ func TestTorn(t *testing.T) {
 			c.Scribble(1, at, s)
 		}
 		has(t, c, "old")
-		if last := find(c).last; last != 7 {
-			t.Errorf("the last number is %d", last)
-		}
 		c.Scribble(2, 0, whole[miss])
 		has(t, c, text(3*textBytes), "old")
 	}
@@ -166,35 +163,15 @@ func TestTorn(t *testing.T) {
 // TestMixed: pages of two records of one number that do not tell the same many pages make none.
 func TestMixed(t *testing.T) {
 	c := chip.New(4, 4, nil)
-	c.Scribble(0, 0, split(1, text(2*textBytes))[0])
-	c.Scribble(0, 1, split(1, text(3*textBytes))[1])
+	c.Scribble(0, 0, split(label{0, 1}, text(2*textBytes))[0])
+	c.Scribble(0, 1, split(label{0, 1}, text(3*textBytes))[1])
 	has(t, c)
 }
 
 // TestTwice: of two pages at one place the first stays.
 func TestTwice(t *testing.T) {
 	c := chip.New(4, 4, nil)
-	c.Scribble(3, 0, split(1, "first")[0])
-	c.Scribble(3, 1, split(1, "second")[0])
+	c.Scribble(3, 0, split(label{0, 1}, "first")[0])
+	c.Scribble(3, 1, split(label{0, 1}, "second")[0])
 	has(t, c, "first")
-}
-
-// TestLastNumber: behind the last number there is none, but an erased block gives it back.
-func TestLastNumber(t *testing.T) {
-	c := chip.New(4, 4, []int{2})
-	c.Scribble(0, 0, split(math.MaxUint32, "good")[0])
-	if e := Renew(c, "new"); e != api.OK {
-		t.Errorf("Renew = %d", e)
-	}
-	has(t, c, "new")
-	c.Scribble(2, 0, split(math.MaxUint32-1, "bad")[0])
-	if e := Renew(c, "newer"); e != api.OK {
-		t.Errorf("Renew = %d", e)
-	}
-	has(t, c, "newer", "bad")
-	c.Scribble(2, 1, split(math.MaxUint32, "worst")[0])
-	if e := Renew(c, "newest"); e != api.ErrFull {
-		t.Errorf("Renew without a number = %d", e)
-	}
-	has(t, c, "worst", "bad")
 }
